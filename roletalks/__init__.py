@@ -1,0 +1,1 @@
+"""Roletalks: scripts of talks, the parts cut out of them, and casts that perform."""
