@@ -5,7 +5,7 @@ A web is a list that has, for each place 0, 1, .., the list of its steps: pairs 
 Scripts are read as webs of scenes, parts as webs of states.
 """
 
-from roletalks.errors import BadNumber
+from roletalks.errors import BadActor, BadNumber, TooMany
 
 LAST_WORD = 5
 
@@ -30,6 +30,33 @@ def check_number(value, least, most):
     """Raise BadNumber unless a value is an integer from least to most."""
     if not is_number(value, least, most):
         raise BadNumber(f"no integer from {least} to {most}")
+
+
+def check_actor(value, actors):
+    """Raise BadActor unless a value is one of so many actors."""
+    if not is_number(value, 0, actors - 1):
+        raise BadActor(f"no actor from 0 to {actors - 1}")
+
+
+def grown(start, steps_from, most):
+    """The things that come from a start on, in the order of their coming, and the web of their places in it.
+
+    steps_from tells the steps of a thing: pairs of a mark and the thing behind it, the marks ascending.
+    More than most things are TooMany, unless most is None.
+    """
+    things = [start]
+    places = {start: 0}
+    web = []
+    while len(web) < len(things):
+        steps = steps_from(things[len(web)])
+        for _, there in steps:
+            if there not in places:
+                if most is not None and len(things) == most:
+                    raise TooMany(most)
+                places[there] = len(things)
+                things.append(there)
+        web.append([(mark, places[there]) for mark, there in steps])
+    return things, web
 
 
 def coming(web, start):

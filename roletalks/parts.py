@@ -19,6 +19,11 @@ def check_part(part):
             raise BadPart(index)
 
 
+def is_part(value):
+    """Tell whether a value is a part."""
+    return has_items(value, 1, MOST_STATES) and all([is_state(state, len(value)) for state in value])
+
+
 def is_state(value, many):
     """Tell whether a value is a state of a part of so many states."""
     if not has_items(value, 2, 2):

@@ -2,7 +2,7 @@
 
 from roletalks.basics import LAST_WORD, check_number, coming, counts_to, has_items, is_number, is_rising
 from roletalks.basics import least_rows, new_names, place_behind, rows_to
-from roletalks.errors import BadScript, BadTalks
+from roletalks.errors import BadScene, BadScript, BadTalks
 
 LEAST_ACTORS = 2
 MOST_ACTORS = 4
@@ -68,6 +68,12 @@ def check_talks(talks, actors):
     for index, talk in enumerate(talks):
         if not is_talk(talk, actors):
             raise BadTalks(index)
+
+
+def check_scene(scene, script):
+    """Raise BadScene unless a value is the number of a scene of a script."""
+    if not is_number(scene, 0, len(script[1]) - 1):
+        raise BadScene(f"no scene from 0 to {len(script[1]) - 1}")
 
 
 def talks_from(scene):

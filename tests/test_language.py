@@ -116,6 +116,8 @@ class LanguageTest(unittest.TestCase):
                 if isinstance(node, ast.Constant):
                     self.assertNotIsInstance(node.value, (float, complex), told)
                     self.assertNotIn("%", str(node.value), told)
+                if isinstance(node, ast.Set):
+                    self.assertFalse([item for item in node.elts if isinstance(item, ast.Starred)], told)
                 if isinstance(node, ast.Call) and isinstance(node.func, ast.Name):
                     self.assertFalse(node.func.id in dir(builtins) and node.func.id not in BUILTINS, told)
                 if isinstance(node, ast.Raise) and node.exc is not None:

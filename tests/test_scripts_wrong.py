@@ -70,38 +70,40 @@ WRONG_TALKS = ODD + [
 ]
 
 
-def calls():
-    """Each function with arguments that are right but for the script."""
-    for name in ALONE:
-        yield getattr(scripts, name), ()
-    for name in WITH_MANY:
-        yield getattr(scripts, name), (2,)
-    yield scripts.follow, ((),)
+class WrongScripts:
+    """Tests of all functions that calls() gives, each with arguments that are right but for the script in front."""
 
-
-class WrongScriptTest(TalkCase):
     def test_wrong_as_a_whole(self):
-        for function, rest in calls():
+        for function, rest in self.calls():
             for script in WRONG_FORMS:
                 self.raises(BadScript, {"index": None}, function, script, *rest)
 
     def test_a_wrong_scene(self):
-        for function, rest in calls():
+        for function, rest in self.calls():
             for scene in WRONG_SCENES:
                 self.raises(BadScript, {"index": 0}, function, (2, (scene, None)), *rest)
                 self.raises(BadScript, {"index": 1}, function, (2, (None, scene)), *rest)
 
     def test_the_first_wrong_scene(self):
-        for function, rest in calls():
+        for function, rest in self.calls():
             for script, index in WRONG_PLACES:
                 self.raises(BadScript, {"index": index}, function, script, *rest)
 
     def test_what_is_just_allowed(self):
-        for function, rest in calls():
+        for function, rest in self.calls():
             for script in ALLOWED:
                 before = repr(script)
                 function(script, *rest)
                 self.assertEqual(repr(script), before)
+
+
+class WrongScriptTest(WrongScripts, TalkCase):
+    def calls(self):
+        for name in ALONE:
+            yield getattr(scripts, name), ()
+        for name in WITH_MANY:
+            yield getattr(scripts, name), (2,)
+        yield scripts.follow, ((),)
 
 
 class WrongNumberTest(TalkCase):
