@@ -79,18 +79,20 @@ def new_names(order):
     return {place: at for at, place in enumerate(order)}
 
 
-def least_rows(web):
-    """The least of the shortest rows of marks from place 0 to each place that comes.
+def least_row_to(web, goal):
+    """The least of the shortest rows of marks from place 0 to a place that comes.
 
-    The places stand in the order of their coming, so that the rows to them are ascending
-    wherever they are equally long.
+    In the order of coming each place is first found behind the least of the shortest rows to it.
     """
-    rows = {0: ()}
+    found_by = {0: None}
     for place in coming(web, 0):
         for mark, there in web[place]:
-            if there not in rows:
-                rows[there] = rows[place] + (mark,)
-    return rows
+            found_by.setdefault(there, (place, mark))
+    row = []
+    while goal != 0:
+        goal, mark = found_by[goal]
+        row.append(mark)
+    return tuple(row[::-1])
 
 
 def place_behind(web, row):

@@ -71,7 +71,13 @@ def states_that_come(part):
 
 def trimmed_part(part):
     """The part of the states that come alone, named in the order of their coming."""
-    order = states_that_come(part)
+    check_part(part)
+    return part_that_comes(part)
+
+
+def part_that_comes(part):
+    """The part of the states that come alone; a part that is made here may have any number of states."""
+    order = coming(event_web(part), 0)
     names = new_names(order)
     return tuple([renamed_state(part[state], names) for state in order])
 
@@ -138,9 +144,14 @@ def same_parts(one, other):
 def least_part(part):
     """The part of fewest states that does the same, named in the order of their coming."""
     check_part(part)
+    return part_of_fewest(part)
+
+
+def part_of_fewest(part):
+    """The part of fewest states that does the same; a part that is made here may have any number of states."""
     groups = alike_groups(part)
     firsts = [groups.index(group) for group in range(max(groups) + 1)]
-    return trimmed_part(tuple([renamed_state(part[state], groups) for state in firsts]))
+    return part_that_comes(tuple([renamed_state(part[state], groups) for state in firsts]))
 
 
 def alike_groups(part):

@@ -1,7 +1,7 @@
 """Scripts and the talks that they can have (points 2 to 5)."""
 
 from roletalks.basics import LAST_WORD, check_number, coming, counts_to, has_items, is_number, is_rising
-from roletalks.basics import least_rows, new_names, place_behind, rows_to
+from roletalks.basics import least_row_to, new_names, place_behind, rows_to
 from roletalks.errors import BadScene, BadScript, BadTalks
 
 LEAST_ACTORS = 2
@@ -207,8 +207,8 @@ def count_whole(script, many):
 def shortest_way(script):
     """The least of the shortest ways to an end, None without one."""
     check_script(script)
-    rows = least_rows(talk_web(script))
-    for scene in rows:
+    web = talk_web(script)
+    for scene in coming(web, 0):
         if script[1][scene] is None:
-            return rows[scene]
+            return least_row_to(web, scene)
     return None
