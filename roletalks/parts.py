@@ -63,6 +63,12 @@ def event_web(part):
     return [[(step[:3], step[3]) for step in steps] for _, steps in part]
 
 
+def behind_events(state):
+    """The states behind the events of a state, by event, the events ascending."""
+    _, steps = state
+    return {step[:3]: step[3] for step in steps}
+
+
 def states_that_come(part):
     """The states that come, in the order of their coming."""
     check_part(part)

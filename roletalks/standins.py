@@ -2,8 +2,8 @@
 
 from roletalks.basics import check_actor, grown, least_row_to
 from roletalks.errors import NotMade
-from roletalks.parts import LAST_ACTOR, check_part, is_plain, may_rest, others, part_of_fewest, part_that_comes
-from roletalks.parts import states_that_come
+from roletalks.parts import LAST_ACTOR, behind_events, check_part, is_plain, may_rest, others, part_of_fewest
+from roletalks.parts import part_that_comes, states_that_come
 
 OPPOSITE_KINDS = {"say": "hear", "hear": "say"}
 
@@ -26,14 +26,6 @@ def has_kind(state, kind):
     """Tell whether a state has a step of a kind."""
     _, steps = state
     return kind in [step[0] for step in steps]
-
-
-def behind_events(state):
-    """The states behind the events of a state, by event; none for no state."""
-    if state is None:
-        return {}
-    _, steps = state
-    return {step[:3]: step[3] for step in steps}
 
 
 def pair_fits(one, other):
@@ -149,8 +141,8 @@ def steps_of_both(parts, pair):
     one, other = states_of(parts, pair)
     if one is not None and other is not None and speaks(one):
         return common_steps(one, other)
-    behind_one = behind_events(one)
-    behind_other = behind_events(other)
+    behind_one = {} if one is None else behind_events(one)
+    behind_other = {} if other is None else behind_events(other)
     return [(event, (behind_one.get(event), behind_other.get(event)))
             for event in sorted(set(list(behind_one) + list(behind_other)))]
 
