@@ -56,14 +56,12 @@ class Book:
     @property
     def states(self):
         """The tuple of the states of all parts."""
-        states, _ = self.position()
-        return states
+        return self.position()[0]
 
     @property
     def letters(self):
         """The ascending tuple of the boxes with letters."""
-        _, letters = self.position()
-        return letters
+        return self.position()[1]
 
     @property
     def steps(self):

@@ -85,6 +85,25 @@ class LanguageTest(unittest.TestCase):
                 self.assertIsInstance(node, (ast.ImportFrom, ast.FunctionDef, ast.ClassDef, ast.Assign), name)
             self.assertIsNotNone(ast.get_docstring(tree), name)
 
+    def test_decorators(self):
+        for name, tree in self.trees():
+            for node in ast.walk(tree):
+                if isinstance(node, (ast.FunctionDef, ast.ClassDef)):
+                    self.assertIn([ast.unparse(one) for one in node.decorator_list], ([], ["property"]), name)
+
+    def test_sets_are_only_measured_sorted_and_searched(self):
+        for name, tree in self.trees():
+            allowed = set()
+            for node in ast.walk(tree):
+                if isinstance(node, ast.Call) and isinstance(node.func, ast.Name) and node.func.id in ("len", "sorted"):
+                    allowed.update([id(one) for one in node.args])
+                elif isinstance(node, ast.Compare):
+                    allowed.update([id(one) for one in node.comparators])
+            for node in ast.walk(tree):
+                is_call = isinstance(node, ast.Call) and isinstance(node.func, ast.Name) and node.func.id == "set"
+                if is_call or isinstance(node, (ast.Set, ast.SetComp)):
+                    self.assertIn(id(node), allowed, f"{name} line {node.lineno}")
+
     def test_imports(self):
         places = {}
         uses = {}
