@@ -65,7 +65,7 @@ def talks_in(cast, states):
 
 
 def first_places(cast):
-    """The tuples of states that come, in the order of their coming; there may be more if these are more than eight."""
+    """The tuples of states that come, in the order of their coming: all of them, or the first ones, more than eight."""
     order = [(0,) * len(cast)]
     at = 0
     while at < len(order) and len(order) <= MOST_SCENES:
@@ -82,8 +82,8 @@ def rebuilt(cast):
     check_cast(cast)
     check_plain(cast)
     order = first_places(cast)
-    # The ninth is too many unless such a place comes ahead of it, so the first eight are looked at.
-    for states in order[:MOST_SCENES]:
+    # The ninth is too many at once only if it comes ahead of all places that are wrong, so it is looked at, too.
+    for states in order[:MOST_SCENES + 1]:
         if not ready_in(cast, states) and not is_over(cast, (states, ())):
             raise NotMade("nobody is ready, and not all may rest")
     if len(order) > MOST_SCENES:

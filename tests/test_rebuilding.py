@@ -75,7 +75,7 @@ def rebuilt_by_the_words(cast):
     order = [(0,) * len(cast)]
     scenes = []
     for states in order:
-        if len(scenes) == 8:
+        if len(scenes) == 9:
             return "too many"
         ready = [actor for actor in range(len(cast)) if is_ready(cast, states, actor)]
         if ready:
@@ -90,7 +90,7 @@ def rebuilt_by_the_words(cast):
             scenes.append(None)
         else:
             return "not made"
-    return len(cast), tuple(scenes)
+    return "too many" if len(scenes) == 9 else (len(cast), tuple(scenes))
 
 
 class InterfaceTest(TalkCase):
@@ -213,18 +213,18 @@ class RebuiltTest(TalkCase):
         for many in (8, 9, 12):
             self.raises(TooMany, {"most": 8}, rebuilt, fan(many))
 
-    def test_a_place_that_comes_ahead_of_the_ninth(self):
-        for many in range(8):
+    def test_the_ninth_does_not_come_ahead_of_such_a_place(self):
+        for many in range(9):
             self.raises(NotMade, {}, rebuilt, line(many, STUCK))
-        for stuck in range(7):
-            self.raises(NotMade, {}, rebuilt, fan(7, (stuck,)))
+        for stuck in range(8):
             self.raises(NotMade, {}, rebuilt, fan(8, (stuck,)))
+            self.raises(NotMade, {}, rebuilt, fan(9, (stuck,)))
             self.raises(NotMade, {}, rebuilt, fan(12, (stuck, 9)))
 
-    def test_a_place_that_does_not_come_ahead_of_the_ninth(self):
-        for many in (8, 9, 10, 100):
+    def test_the_ninth_comes_ahead_of_such_a_place(self):
+        for many in (9, 10, 100):
             self.raises(TooMany, {"most": 8}, rebuilt, line(many, STUCK))
-        for many, stuck in ((8, 7), (9, 8), (12, 11)):
+        for many, stuck in ((9, 8), (10, 8), (12, 11)):
             self.raises(TooMany, {"most": 8}, rebuilt, fan(many, (stuck,)))
 
     def test_all_against_the_words_of_the_document(self):
